@@ -1,0 +1,1 @@
+"""Stockpiles and blends, exactly."""

@@ -1,0 +1,28 @@
+"""The calls on sources. Each is handed a yard and its numbers, which are in their ranges, and answers a row."""
+
+from pilesblends.exact import lowest
+from pilesblends.lots import mixed
+from pilesblends.refusals import TOO_LITTLE, TOO_MANY
+from pilesblends.yard import MOST_SOURCES, Source, pile_at
+
+KILOGRAMS_OF_A_TONNE = 1000
+
+
+def add_source(yard, source):
+    if len(yard.sources) == MOST_SOURCES:
+        return [TOO_MANY]
+    yard.sources.append(source)
+    return [0, len(yard.sources)]
+
+
+def call_source(yard, numbers):
+    grades = tuple([lowest(grams, KILOGRAMS_OF_A_TONNE) for grams in numbers[2:5]])
+    return add_source(yard, Source(numbers[0], numbers[1], grades))
+
+
+def call_offer(yard, numbers):
+    pile = pile_at(yard, numbers[0])
+    if len(pile.lots) == 0:
+        return [TOO_LITTLE]
+    lot = mixed(pile.lots)
+    return add_source(yard, Source(numbers[1], lot.kilograms, lot.grades))
