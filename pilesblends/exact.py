@@ -1,5 +1,7 @@
 """Fractions: a pair of whole numbers, above and below, in lowest terms, below from 1 on."""
 
+NOTHING = (0, 1)
+
 
 def common_divisor(one, other):
     while other != 0:
@@ -23,9 +25,24 @@ def plus(one, other):
     return (above // rest, short * (other[1] // rest))
 
 
+def minus(one, other):
+    return plus(one, (-other[0], other[1]))
+
+
+def total(fractions):
+    result = NOTHING
+    for fraction in fractions:
+        result = plus(result, fraction)
+    return result
+
+
 def times(fraction, number):
     divisor = common_divisor(fraction[1], number)
     return (fraction[0] * (number // divisor), fraction[1] // divisor)
+
+
+def product(one, other):
+    return lowest(one[0] * other[0], one[1] * other[1])
 
 
 def over(fraction, number):
@@ -34,8 +51,17 @@ def over(fraction, number):
     return (fraction[0] // divisor, fraction[1] * (number // divisor))
 
 
-def in_a_row(fractions):
+def less(one, other):
+    return one[0] * other[1] < other[0] * one[1]
+
+
+def in_a_row(parts):
     row = []
-    for fraction in fractions:
-        row.extend(fraction)
+    for part in parts:
+        row.extend(part)
     return row
+
+
+def in_fractions(row):
+    """The fractions that stand in a row, in lowest terms or not."""
+    return [lowest(above, below) for above, below in zip(row[0::2], row[1::2])]

@@ -1,11 +1,12 @@
-"""The calls on sources. Each is handed a yard and its numbers, which are in their ranges, and answers a row."""
+"""The calls on sources and on what is wanted.
 
-from pilesblends.exact import lowest
+Each is handed a yard and its numbers, which are in their ranges, and answers a row.
+"""
+
+from pilesblends.exact import in_a_row, lowest
 from pilesblends.lots import mixed
 from pilesblends.refusals import TOO_LITTLE, TOO_MANY
-from pilesblends.yard import MOST_SOURCES, Source, pile_at
-
-KILOGRAMS_OF_A_TONNE = 1000
+from pilesblends.yard import KILOGRAMS_OF_A_TONNE, MOST_SOURCES, Source, pile_at
 
 
 def add_source(yard, source):
@@ -26,3 +27,22 @@ def call_offer(yard, numbers):
         return [TOO_LITTLE]
     lot = mixed(pile.lots)
     return add_source(yard, Source(numbers[1], lot.kilograms, lot.grades))
+
+
+def call_clear(yard, numbers):
+    yard.sources = []
+    return [0]
+
+
+def call_want(yard, numbers):
+    yard.amount = numbers[0]
+    yard.leasts = numbers[1::2]
+    yard.mosts = numbers[2::2]
+    return [0]
+
+
+def call_sources(yard, numbers):
+    answer = [0, yard.amount] + in_a_row(list(zip(yard.leasts, yard.mosts))) + [len(yard.sources)]
+    for source in yard.sources:
+        answer.extend([source.cost, source.kilograms] + in_a_row(source.grades))
+    return answer

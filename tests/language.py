@@ -28,6 +28,8 @@ NEVER_WORDS = re.compile(
     r"namedtuple|NamedTuple|TypedDict|TYPE_CHECKING|abstractmethod)\b|dataclass|overload|contextmanager"
 )
 DUNDER_METHODS = ("__init__", "__eq__", "__repr__", "__str__", "__len__")
+TO_BE_WALKED = ("zip", "enumerate", "reversed", "range")
+WALKERS = ("list", "tuple", "dict", "sorted", "sum", "any", "all", "enumerate", "zip")
 STATEMENTS = (
     ast.FunctionDef, ast.ClassDef, ast.Return, ast.Assign, ast.AugAssign, ast.For, ast.While, ast.If, ast.Raise,
     ast.Try, ast.ImportFrom, ast.Expr, ast.Pass, ast.Break, ast.Continue,
@@ -193,6 +195,35 @@ def attribute_faults(tree, own_methods):
     return faults
 
 
+def walked_at_once(tree):
+    """Every place where what is to be walked on the spot is walked so."""
+    places = []
+    for node in ast.walk(tree):
+        if isinstance(node, (ast.For, ast.comprehension)):
+            places.append(node.iter)
+        if isinstance(node, ast.Call) and node.args:
+            if isinstance(node.func, ast.Name) and node.func.id in WALKERS:
+                places.append(node.args[0])
+                if node.func.id == "zip":
+                    places.extend(node.args)
+            if isinstance(node.func, ast.Name) and node.func.id in ("min", "max") and len(node.args) == 1:
+                places.append(node.args[0])
+            if isinstance(node.func, ast.Attribute) and isinstance(node.func.value, ast.Constant):
+                places.append(node.args[0])
+    return places
+
+
+def walk_faults(tree):
+    faults = []
+    places = walked_at_once(tree)
+    for node in ast.walk(tree):
+        if isinstance(node, ast.Call) and node not in places:
+            name = ast.unparse(node.func)
+            if name in TO_BE_WALKED or name.endswith((".items", ".keys", ".values")):
+                faults.append((node.lineno, "L23 " + name))
+    return faults
+
+
 def methods_of(tree):
     return {
         method.name for node in tree.body if isinstance(node, ast.ClassDef)
@@ -203,7 +234,7 @@ def methods_of(tree):
 def faults_of(text, package="pilesblends", own_methods=()):
     tree = ast.parse(text)
     faults = text_faults(text) + top_faults(tree) + import_faults(tree, package) + name_faults(tree)
-    faults += attribute_faults(tree, own_methods or methods_of(tree))
+    faults += attribute_faults(tree, own_methods or methods_of(tree)) + walk_faults(tree)
     for node in ast.walk(tree):
         faults.extend((getattr(node, "lineno", 0), fault) for fault in node_faults(node))
         if isinstance(node, ast.FunctionDef):

@@ -2,11 +2,12 @@
 
 import unittest
 
-from pilesblends.plant import answer_to, answers
-from pilesblends.yard import Yard
+from pilesblends.plant import answers
 
 WIDEST = 10 ** 18
 HEAVIEST = 10 ** 9
+MILLION = 10 ** 6
+FRACTION_MOST = 10 ** 12
 
 
 def pile(sort, most=HEAVIEST):
@@ -45,6 +46,55 @@ def offer(number, cost=0):
     return [8, number, cost]
 
 
+def clear():
+    return [9]
+
+
+def want(amount, kind1=(0, MILLION), kind2=(0, MILLION), kind3=(0, MILLION)):
+    return [10, amount, 6, *kind1, *kind2, *kind3]
+
+
+def blend():
+    return [11]
+
+
+def most():
+    return [12]
+
+
+def metal_range(kind):
+    return [13, kind]
+
+
+def row(numbers):
+    return [len(numbers), *numbers]
+
+
+def check(*amounts):
+    """Each amount a whole number or a pair."""
+    return [14] + row(pairs(amounts))
+
+
+def proof(amounts, prices):
+    return [15] + row(pairs(amounts)) + row(pairs(prices))
+
+
+def never(prices):
+    return [16] + row(pairs(prices))
+
+
+def sources():
+    return [17]
+
+
+def pairs(fractions):
+    """The numbers of a row of fractions: pairs, whole numbers, or what has a numerator and a denominator."""
+    numbers = []
+    for one in fractions:
+        numbers.extend(one if isinstance(one, tuple) else (one.numerator, one.denominator))
+    return numbers
+
+
 def as_list(calls):
     numbers = []
     for call in calls:
@@ -73,13 +123,6 @@ def last(*calls):
     return ask(*calls)[-1]
 
 
-def yard_after(*calls):
-    yard = Yard()
-    for call in calls:
-        answer_to(yard, call[0], call[1:])
-    return yard
-
-
 def lots_told(answer):
     """An answer of lots as (kilograms, three grades) each."""
     rows = [tuple(answer[k:k + 7]) for k in range(2, len(answer), 7)]
@@ -87,17 +130,19 @@ def lots_told(answer):
     return rows
 
 
-def all_of(yard):
-    return (
-        [(p.sort_number, p.most, [(t.kilograms, t.grades) for t in p.lots]) for p in yard.piles],
-        [(s.cost, s.kilograms, s.grades) for s in yard.sources],
-        (yard.put_weight, yard.put_metal, yard.taken_weight, yard.taken_metal),
-    )
+def sources_told(answer):
+    """An answer of sources without what is wanted: (cost, kilograms, three grades) each."""
+    rows = [
+        (answer[k], answer[k + 1], tuple(zip(answer[k + 2:k + 8:2], answer[k + 3:k + 8:2])))
+        for k in range(9, len(answer), 8)
+    ]
+    assert answer[0] == 0 and answer[8] == len(rows) and len(answer) == 9 + 8 * len(rows), answer
+    return rows
 
 
 def look():
     """Calls that show all that the answers can show; the last two tell how many piles and sources there were."""
-    calls = [sums()]
+    calls = [sums(), sources()]
     for number in range(1, 7):
         calls.extend([told(number), lots(number)])
     return calls + [pile(0), source()]
@@ -110,7 +155,6 @@ class LineTest(unittest.TestCase):
         rows = ask(*calls, call, *look())
         self.assertEqual(rows[len(calls)], [code], call)
         self.assertEqual(rows[len(calls) + 1:], ask(*calls, *look())[len(calls):], call)
-        self.assertEqual(all_of(yard_after(*calls, call)), all_of(yard_after(*calls)), call)
 
     def not_refused(self, call, before):
         self.assertEqual(last(*before, call)[0], 0, call)

@@ -4,7 +4,7 @@ import random
 from fractions import Fraction
 from itertools import groupby
 
-from tests.line import LineTest, ask, last, lots, move, pile, put, sums, take, told
+from tests.line import LineTest, ask, last, lots, move, pile, put, sources, sums, take, told, want
 
 
 def in_numbers(fractions):
@@ -26,7 +26,8 @@ def groups(kilograms):
 class ByKilograms:
     def __init__(self):
         self.piles = []
-        self.sources = 0
+        self.offered = []
+        self.wanted = [0, 0, 10 ** 6, 0, 10 ** 6, 0, 10 ** 6]
         self.names = 0
         self.came = []
         self.went = []
@@ -124,23 +125,43 @@ class ByKilograms:
     def source(self, *numbers):
         if not all(0 <= number <= 10 ** 6 for number in numbers):
             return [-1]
-        return self.one_more_source()
+        return self.one_more_source(numbers[0], numbers[1], [Fraction(number, 1000) for number in numbers[2:]])
 
     def offer(self, number, cost):
         if not self.there(number) or not 0 <= cost <= 10 ** 6:
             return [-1]
-        if not self.piles[number - 1]["held"]:
+        held = self.piles[number - 1]["held"]
+        if not held:
             return [-4]
-        return self.one_more_source()
+        return self.one_more_source(cost, len(held), [grams / len(held) for grams in metal(held)])
 
-    def one_more_source(self):
-        if self.sources >= 6:
+    def one_more_source(self, cost, kilograms, grades):
+        if len(self.offered) >= 6:
             return [-3]
-        self.sources += 1
-        return [0, self.sources]
+        self.offered.append([cost, kilograms] + in_numbers(grades))
+        return [0, len(self.offered)]
+
+    def clear(self):
+        self.offered = []
+        return [0]
+
+    def want(self, amount, count, *bounds):
+        if count != 6 or not all(0 <= number <= 10 ** 6 for number in (amount, *bounds)):
+            return [-1]
+        self.wanted = [amount, *bounds]
+        return [0]
+
+    def sources(self):
+        row = [0, *self.wanted, len(self.offered)]
+        for one in self.offered:
+            row.extend(one)
+        return row
 
     def answer(self, call):
-        named = ("pile", "put", "take", "move", "told", "lots", "sums", "source", "offer")
+        named = dict(enumerate((
+            "pile", "put", "take", "move", "told", "lots", "sums", "source", "offer", "clear", "want",
+        )))
+        named[17] = "sources"
         return getattr(self, named[call[0]])(*call[1:])
 
 
@@ -166,7 +187,12 @@ def random_call(dice, kinds):
         return [7] + [dice.choice([-1, 0, 5, 10 ** 6]) if dice.random() < 0.2 else 3 for k in range(5)]
     if kind == 8:
         return [8, some_pile, dice.choice([0, 5, 10 ** 6, 10 ** 6 + 1])]
-    return sums()
+    if kind == 10:
+        call = want(dice.randrange(50), *[(dice.randrange(9), dice.randrange(9)) for k in range(3)])
+        if dice.random() < 0.2:
+            call[dice.choice([1, 3, 4, 8])] = dice.choice([-1, 10 ** 6 + 1, 10 ** 6])
+        return call
+    return [kind]
 
 
 class ByKilogramsTest(LineTest):
@@ -179,8 +205,8 @@ class ByKilogramsTest(LineTest):
         dice = random.Random(20261116)
         for k in range(150):
             first = [pile(dice.randrange(3), dice.choice([30, 60, 200])) for n in range(dice.randrange(1, 6))]
-            kinds = [0] + [1] * 6 + [2] * 2 + [3] * 6 + [4, 5, 5, 6, 7, 8]
-            self.alike(first + [random_call(dice, kinds) for n in range(100)])
+            kinds = [0] + [1] * 6 + [2] * 2 + [3] * 6 + [4, 5, 5, 6, 7, 8, 8, 10, 17, 17] + [9] * (k % 2)
+            self.alike(first + [random_call(dice, kinds) for n in range(114)] + [sources()])
 
     def test_random_lines_with_many_lots(self):
         dice = random.Random(30)

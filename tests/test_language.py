@@ -72,6 +72,7 @@ FAULTY = {
     "L15 hash": "def one(hash):\n    return hash\n",
     "L17 word": "# a type\n",
     "L20": "def one(two):\n    return two is one\n",
+    "L23 zip": "def one(two):\n    return one(zip(two, two))\n",
     "L25 sort": "def one(two):\n    two.sort()\n",
     "L26 sort": "def one(two):\n    two.sort = 1\n",
     "L27 power": "def one(two):\n    return 2 ** two\n",
